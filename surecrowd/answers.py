@@ -33,9 +33,9 @@ class Full(Answer):
 
     def shows(self, places, ties, many):
         """Whether the groups part this web, as many as the web with the most ties has, and as even."""
-        # A web so parted has the most ties: they need no count of their own.
-        if not self.groups or not do_part(places, ties, self.groups):
+        if not do_part(places, ties, self.groups):
             return False
+        # A web so parted has the most ties: they need no count of their own.
         return len(self.groups) == most_groups(places, many) and are_even(self.groups)
 
 
@@ -74,8 +74,9 @@ class Three(Answer):
     def shows(self, places, ties):
         """Whether these are three unlike places, the first two tied and the third tied to neither."""
         trio = [self.one, self.other, self.third]
-        if not all([is_place(places, place) for place in trio]) or len(set(trio)) != 3:
+        if not all([is_place(places, place) for place in trio]):
             return False
+        # Two places alike fall out by their ties: none is tied to itself, and the first two must be tied.
         if not is_tied(ties, self.one, self.other):
             return False
         return not is_tied(ties, self.one, self.third) and not is_tied(ties, self.other, self.third)

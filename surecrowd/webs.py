@@ -41,7 +41,8 @@ def is_crowd(places, ties, some):
 
 def hold_each_once(places, groups):
     """Whether these are groups, rising, one place at least in each, that hold each place just once."""
-    if not isinstance(groups, list):
+    # A web has one place at least, so there is one group at least.
+    if not isinstance(groups, list) or not groups:
         return False
     if not all([are_rising(places, group) for group in groups]):
         return False
@@ -81,6 +82,7 @@ def most_groups(places, many):
 def most_ties(places, many):
     """How many ties so many places can have at the most, without a crowd of one more than the count."""
     groups = most_groups(places, many)
+    # Only beyond the limits, places or a count below 1: that is to be no error.
     if groups < 1:
         return 0
     size, larger = divmod(places, groups)

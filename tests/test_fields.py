@@ -94,6 +94,20 @@ class TestCopies(unittest.TestCase):
                 answer.groups[0].append(1)
                 self.assertEqual(answer.groups, [[0, 1], [0]])
 
+    def test_lists_are_copied_in_every_field(self):
+        for made, names in ((Crowd, ["some"]), (Spare, ["ties"]), (Full, ["groups"]), (Parted, ["groups"]),
+                            (Three, ["one", "other", "third"])):
+            with self.subTest(made.__name__):
+                worth = [[0], [[1]], 2]
+                answer = made(*[worth for _ in names])
+                worth[1][0].append(3)
+                worth.append(4)
+                for name in names:
+                    self.assertEqual(getattr(answer, name), [[0], [[1]], 2])
+                    getattr(answer, name)[0].append(5)
+                self.assertEqual(worth, [[0], [[1, 3]], 2, 4])
+                self.assertEqual([getattr(answer, name) for name in names], [[[0, 5], [[1]], 2]] * len(names))
+
     def test_the_fields_of_one_answer_make_another_that_shares_nothing(self):
         full = Full([[0], [1]])
         parted = Parted(full.groups)
@@ -195,6 +209,26 @@ class TestOtherKinds(unittest.TestCase):
                 self.assertIs(Parted(worth).shows(2, pair), worth == [[0], [1]])
                 self.assertIs(Three(worth, 1, 2).shows(3, pair), worth == 0 and whole)
                 self.assertIs(Three(1, 2, worth).shows(3, [(1, 2)]), worth == 0 and whole)
+
+    def test_numbers_beyond_the_limits_are_no_error(self):
+        counted = [Crowd([]), Crowd([0]), Crowd([0, 1]), Full([]), Full([[0]]), Full([[0], [1]]), Spare(1), Spare(0)]
+        for answer in counted:
+            for places in (-1, 0, 1, 2):
+                for many in (-2, -1, 0, 1):
+                    with self.subTest(answer=vars(answer), places=places, many=many):
+                        self.assertIsInstance(answer.shows(places, [(0, 1)][:places // 2], many), bool)
+        for answer in (Parted([]), Parted([[0]]), Three(0, 1, 2)):
+            for places in (-1, 0):
+                with self.subTest(answer=vars(answer), places=places):
+                    self.assertIsInstance(answer.shows(places, []), bool)
+
+    def test_webs_of_more_than_60_places(self):
+        ties = [(one, other) for other in range(40, 75) for one in range(40)]
+        self.assertIs(Parted([list(range(40, 75)), list(range(40))]).shows(75, ties), True)
+        self.assertIs(Spare(6).shows(75, ties, 2), True)
+        self.assertIs(Spare(1406).shows(75, [], 2), True)
+        self.assertIs(Crowd([0, 74]).shows(75, ties, 1), True)
+        self.assertIs(Three(0, 40, 1).shows(75, ties), False)
 
     def test_a_tuple_is_no_list(self):
         self.assertIs(Crowd((0, 1)).shows(2, [(0, 1)], 1), False)
