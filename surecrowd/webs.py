@@ -14,6 +14,23 @@ def is_place(places, thing):
     return is_whole(thing) and 0 <= thing < places
 
 
+def is_tie(places, thing):
+    """Whether this is a pair of places, the lesser first."""
+    if not isinstance(thing, tuple) or len(thing) != 2:
+        return False
+    low, high = thing
+    return is_place(places, low) and is_place(places, high) and low < high
+
+
+def are_ties(places, thing):
+    """Whether this is a list of ties, none twice."""
+    if not isinstance(thing, list):
+        return False
+    if not all([is_tie(places, tie) for tie in thing]):
+        return False
+    return len(set(thing)) == len(thing)
+
+
 def are_rising(places, some):
     """Whether this is a list of places, one at least, each above the one before it."""
     if not isinstance(some, list) or not some:

@@ -3,19 +3,8 @@
 import random
 import unittest
 
-from helping import all_ties, even_groups, rows_of, ties_between
+from helping import MOST, VAST, all_ties, even_groups, rows_of, ties_between
 from surecrowd.answers import Crowd, Full, Spare
-
-VAST = 10 ** 400
-
-# Most ties by places and count, reckoned by hand from the groups' sizes.
-MOST = (
-    (1, 1, 0), (1, 2, 0), (1, VAST, 0), (2, 1, 0), (2, 2, 1), (2, 3, 1), (3, 2, 2), (3, 3, 3),
-    (4, 2, 4), (4, 3, 5), (5, 2, 6), (5, 3, 8), (5, 4, 9), (5, 5, 10), (7, 3, 16), (10, 2, 25),
-    (10, 3, 33), (10, 4, 37), (10, 9, 44), (59, 2, 870), (60, 1, 0), (60, 2, 900), (60, 3, 1200),
-    (60, 4, 1350), (60, 7, 1542), (60, 31, 1741), (60, 59, 1769), (60, 60, 1770), (60, 61, 1770),
-    (60, VAST, 1770),
-)
 
 
 class TestCrowd(unittest.TestCase):
